@@ -9,9 +9,14 @@ import (
 
 // reach is what the functions of a package name, and which of the language's ways are in them.
 type reach struct {
-	names   map[string][]string // of a function ("F", or "T.F"): what its body names
+	names   map[string][]string // of a function ("F", or "T.F"): what it names; with a dot ahead, where it may be a method
+	methods map[string][]string // of such a name: the methods that are called so
 	generic map[string]bool
 	ranges  map[string]bool // over a string
+	rows    map[string]int  // of its longest table, how many rows of literals it has
+	panics  map[string]bool
+	catches map[string]bool // by a deferred function literal
+	acts    map[string]bool // of a struct type: it has functions in its fields
 }
 
 // nothing imports no package: of what a test here asks, the package's own text tells enough.
@@ -24,18 +29,38 @@ func reachOf(t *testing.T, layer string) reach {
 	info := &types.Info{Types: map[ast.Expr]types.TypeAndValue{}}
 	c := types.Config{Importer: nothing{}, Error: func(error) {}}
 	c.Check(layer, fset, files, info)
-	r := reach{map[string][]string{}, map[string]bool{}, map[string]bool{}}
+	r := reach{map[string][]string{}, map[string][]string{}, map[string]bool{}, map[string]bool{}, map[string]int{}, map[string]bool{}, map[string]bool{}, map[string]bool{}}
 	for _, f := range files {
 		for _, d := range f.Decls {
-			if x, ok := d.(*ast.FuncDecl); ok {
+			switch x := d.(type) {
+			case *ast.FuncDecl:
 				r.add(x, info)
+			case *ast.GenDecl:
+				r.addTypes(x)
 			}
 		}
 	}
 	return r
 }
 
-func (r reach) add(x *ast.FuncDecl, info *types.Info) {
+func (r reach) addTypes(d *ast.GenDecl) {
+	for _, s := range d.Specs {
+		spec, ok := s.(*ast.TypeSpec)
+		if !ok {
+			continue
+		}
+		if x, ok := spec.Type.(*ast.StructType); ok {
+			for _, f := range x.Fields.List {
+				if _, ok := f.Type.(*ast.FuncType); ok {
+					r.acts[spec.Name.Name] = true
+				}
+			}
+		}
+	}
+}
+
+// nameOf is a function's name, or a method's with its type's ahead.
+func nameOf(x *ast.FuncDecl) string {
 	name := x.Name.Name
 	if x.Recv != nil {
 		ast.Inspect(x.Recv, func(n ast.Node) bool {
@@ -47,18 +72,62 @@ func (r reach) add(x *ast.FuncDecl, info *types.Info) {
 			return true
 		})
 	}
+	return name
+}
+
+func (r reach) add(x *ast.FuncDecl, info *types.Info) {
+	name := nameOf(x)
+	if x.Recv != nil {
+		r.methods["."+x.Name.Name] = append(r.methods["."+x.Name.Name], name)
+	}
 	r.generic[name] = x.Type.TypeParams != nil
-	ast.Inspect(x.Body, func(n ast.Node) bool {
-		switch y := n.(type) {
-		case *ast.Ident:
-			r.names[name] = append(r.names[name], y.Name, "Writer."+y.Name, "Reader."+y.Name)
-		case *ast.RangeStmt:
-			if b, ok := info.Types[y.X].Type.(*types.Basic); ok && b.Info()&types.IsString != 0 {
-				r.ranges[name] = true
+	for _, n := range []ast.Node{x.Type, x.Body} {
+		ast.Inspect(n, func(n ast.Node) bool { return r.addNode(name, n, info) })
+	}
+}
+
+func (r reach) addNode(name string, n ast.Node, info *types.Info) bool {
+	switch y := n.(type) {
+	case *ast.Ident:
+		r.names[name] = append(r.names[name], y.Name)
+	case *ast.SelectorExpr:
+		r.names[name] = append(r.names[name], "."+y.Sel.Name)
+		ast.Inspect(y.X, func(n ast.Node) bool { return r.addNode(name, n, info) })
+		return false
+	case *ast.RangeStmt:
+		if b, ok := info.Types[y.X].Type.(*types.Basic); ok && b.Info()&types.IsString != 0 {
+			r.ranges[name] = true
+		}
+	case *ast.CompositeLit:
+		rows := 0
+		for _, e := range y.Elts {
+			if _, ok := e.(*ast.CompositeLit); ok {
+				rows++
 			}
+		}
+		r.rows[name] = max(r.rows[name], rows)
+	case *ast.CallExpr:
+		if id, ok := y.Fun.(*ast.Ident); ok && id.Name == "panic" {
+			r.panics[name] = true
+		}
+	case *ast.DeferStmt:
+		if f, ok := y.Call.Fun.(*ast.FuncLit); ok && calls(f, "recover") {
+			r.catches[name] = true
+		}
+	}
+	return true
+}
+
+func calls(n ast.Node, builtin string) bool {
+	found := false
+	ast.Inspect(n, func(n ast.Node) bool {
+		if c, ok := n.(*ast.CallExpr); ok {
+			id, ok := c.Fun.(*ast.Ident)
+			found = found || ok && id.Name == builtin
 		}
 		return true
 	})
+	return found
 }
 
 // from is all that a function comes to, itself too.
@@ -70,6 +139,7 @@ func (r reach) from(name string) map[string]bool {
 		if !seen[n] {
 			seen[n] = true
 			work = append(work, r.names[n]...)
+			work = append(work, r.methods[n]...)
 		}
 	}
 	return seen
@@ -93,14 +163,50 @@ func TestWayOfNumbers(t *testing.T) {
 
 // A text is looked through by a range over it.
 func TestWayOfTexts(t *testing.T) {
-	r := reachOf(t, "wire")
-	for _, face := range []string{"Good", "Writer.Text", "Reader.Text"} {
-		found := false
+	for layer, faces := range map[string][]string{"wire": {"Good", "Writer.Text", "Reader.Text"}, "msg": {"Text", "Parse"}} {
+		r := reachOf(t, layer)
+		for _, face := range faces {
+			if !r.reaches(face, r.ranges) {
+				t.Errorf("%s: %s: no range over a string", layer, face)
+			}
+		}
+	}
+}
+
+// reaches tells whether a function comes to one of a set.
+func (r reach) reaches(face string, set map[string]bool) bool {
+	for name := range r.from(face) {
+		if set[name] {
+			return true
+		}
+	}
+	return false
+}
+
+// What a kind of message uses stands in a table of literals, and what is done for a field are functions in fields.
+func TestWayOfKinds(t *testing.T) {
+	r := reachOf(t, "msg")
+	for _, face := range []string{"Encode", "Decode", "Clean", "Text", "Parse"} {
+		rows := 0
 		for name := range r.from(face) {
-			found = found || r.ranges[name]
+			rows = max(rows, r.rows[name])
 		}
-		if !found {
-			t.Errorf("%s: no range over a string", face)
+		if rows != 27 {
+			t.Errorf("%s: a table of %d rows", face, rows)
 		}
+		if !r.reaches(face, r.acts) {
+			t.Errorf("%s: no functions in fields", face)
+		}
+	}
+}
+
+// A line that goes wrong is given up by panic, deep inside; the face recovers it in a deferred function.
+func TestWayOfWrongLines(t *testing.T) {
+	r := reachOf(t, "msg")
+	if !r.reaches("Parse", r.panics) || r.panics["Parse"] {
+		t.Error("Parse: no panic deep inside")
+	}
+	if !r.catches["Parse"] {
+		t.Error("Parse: no recover in a deferred function")
 	}
 }
