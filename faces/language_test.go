@@ -27,6 +27,13 @@ func library() map[string][]string {
 	}
 }
 
+// standsOn is what the chapters of the layers that are built let them import of the program. Of the others it knows no more than that it lies below them.
+func standsOn() map[string][]string {
+	return map[string][]string{
+		"api": {}, "wire": {"api"}, "stat": {"api", "wire"}, "msg": {"api", "wire", "stat"}, "frame": {"api"},
+	}
+}
+
 // source is a package's files, but its tests.
 func source(t *testing.T, layer string) (*token.FileSet, []*ast.File) {
 	t.Helper()
@@ -49,7 +56,7 @@ func source(t *testing.T, layer string) (*token.FileSet, []*ast.File) {
 	return fset, files
 }
 
-// A layer imports nothing but the library's few packages and what lies below it.
+// A layer imports nothing but the library's few packages and what lies below it; of that, what its chapter names.
 func TestImports(t *testing.T) {
 	for n, layer := range layers() {
 		_, files := source(t, layer)
@@ -72,6 +79,9 @@ func mayImport(n int, path string) bool {
 		return ok
 	}
 	at := slices.Index(layers(), own)
+	if on, built := standsOn()[layers()[n]]; built && at >= 0 {
+		return slices.Contains(on, own)
+	}
 	return at < n // a package that is no layer is the program's own choice
 }
 

@@ -210,3 +210,112 @@ func TestWayOfWrongLines(t *testing.T) {
 		t.Error("Parse: no recover in a deferred function")
 	}
 }
+
+// All lays hold of a cutter in a closure; a label leaves two loops at once there.
+func TestWayOfFrames(t *testing.T) {
+	fset, files := source(t, "frame")
+	info := &types.Info{Uses: map[*ast.Ident]types.Object{}}
+	c := types.Config{Importer: nothing{}, Error: func(error) {}}
+	c.Check("frame", fset, files, info)
+	held, left := false, false
+	for _, f := range files {
+		for _, d := range f.Decls {
+			x, ok := d.(*ast.FuncDecl)
+			if !ok || nameOf(x) != "All" {
+				continue
+			}
+			ast.Inspect(x.Body, func(n ast.Node) bool {
+				if lit, ok := n.(*ast.FuncLit); ok {
+					held = held || laysHoldOf(lit, "Cutter", info)
+				}
+				if l, ok := n.(*ast.LabeledStmt); ok {
+					left = left || leftFromWithin(l)
+				}
+				return true
+			})
+		}
+	}
+	if !held {
+		t.Error("All: no closure that lays hold of a cutter")
+	}
+	if !left {
+		t.Error("All: no label by which two loops are left at once")
+	}
+}
+
+// laysHoldOf tells whether a function literal uses something of that type of the package that stands outside of it.
+func laysHoldOf(lit *ast.FuncLit, kind string, info *types.Info) bool {
+	found := false
+	ast.Inspect(lit.Body, func(n ast.Node) bool {
+		id, ok := n.(*ast.Ident)
+		if !ok {
+			return true
+		}
+		v, ok := info.Uses[id].(*types.Var)
+		if !ok || v.Pos() >= lit.Pos() && v.Pos() < lit.End() {
+			return true
+		}
+		of := v.Type()
+		if p, ok := of.(*types.Pointer); ok {
+			of = p.Elem()
+		}
+		named, ok := of.(*types.Named)
+		found = found || ok && named.Obj().Name() == kind
+		return true
+	})
+	return found
+}
+
+// leftFromWithin tells whether a loop that has a label is left, by that label, out of a loop within it.
+func leftFromWithin(l *ast.LabeledStmt) bool {
+	found := false
+	for _, inner := range loops(l.Stmt)[1:] {
+		ast.Inspect(inner, func(n ast.Node) bool {
+			b, ok := n.(*ast.BranchStmt)
+			found = found || ok && b.Label != nil && b.Label.Name == l.Label.Name
+			return true
+		})
+	}
+	return found
+}
+
+// loops are the loops of a statement, itself ahead of all, whether it is one or not.
+func loops(s ast.Stmt) []ast.Node {
+	l := []ast.Node{s}
+	ast.Inspect(s, func(n ast.Node) bool {
+		switch n.(type) {
+		case *ast.ForStmt, *ast.RangeStmt:
+			if n != ast.Node(s) {
+				l = append(l, n)
+			}
+		}
+		return true
+	})
+	return l
+}
+
+// What a cutter has in its hand is an array and a list.
+func TestWayOfTheHand(t *testing.T) {
+	_, files := source(t, "frame")
+	arrays, lists := 0, 0
+	for _, f := range files {
+		ast.Inspect(f, func(n ast.Node) bool {
+			spec, ok := n.(*ast.TypeSpec)
+			if !ok || spec.Name.Name != "Cutter" {
+				return true
+			}
+			ast.Inspect(spec.Type, func(n ast.Node) bool {
+				if a, ok := n.(*ast.ArrayType); ok && a.Len != nil {
+					arrays++
+				} else if ok {
+					lists++
+				}
+				return true
+			})
+			return false
+		})
+	}
+	if arrays == 0 || lists == 0 {
+		t.Errorf("a cutter has %d arrays and %d lists", arrays, lists)
+	}
+}
