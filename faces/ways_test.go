@@ -163,7 +163,7 @@ func TestWayOfNumbers(t *testing.T) {
 
 // A text is looked through by a range over it.
 func TestWayOfTexts(t *testing.T) {
-	for layer, faces := range map[string][]string{"wire": {"Good", "Writer.Text", "Reader.Text"}, "msg": {"Text", "Parse"}} {
+	for layer, faces := range map[string][]string{"wire": {"Good", "Writer.Text", "Reader.Text"}, "msg": {"Text", "Parse"}, "names": {"Match"}} {
 		r := reachOf(t, layer)
 		for _, face := range faces {
 			if !r.reaches(face, r.ranges) {
@@ -200,14 +200,18 @@ func TestWayOfKinds(t *testing.T) {
 	}
 }
 
-// A line that goes wrong is given up by panic, deep inside; the face recovers it in a deferred function.
-func TestWayOfWrongLines(t *testing.T) {
-	r := reachOf(t, "msg")
-	if !r.reaches("Parse", r.panics) || r.panics["Parse"] {
-		t.Error("Parse: no panic deep inside")
-	}
-	if !r.catches["Parse"] {
-		t.Error("Parse: no recover in a deferred function")
+// What cannot be read on (a line, a pattern) is given up by panic, deep inside; the face recovers it in a deferred function.
+func TestWayOfGivingUp(t *testing.T) {
+	for layer, faces := range map[string][]string{"msg": {"Parse"}, "names": {"Match", "Words"}} {
+		r := reachOf(t, layer)
+		for _, face := range faces {
+			if !r.reaches(face, r.panics) || r.panics[face] {
+				t.Errorf("%s: %s: no panic deep inside", layer, face)
+			}
+			if !r.catches[face] {
+				t.Errorf("%s: %s: no recover in a deferred function", layer, face)
+			}
+		}
 	}
 }
 
