@@ -202,7 +202,7 @@ func TestWayOfKinds(t *testing.T) {
 
 // What cannot be read on (a line, a pattern) is given up by panic, deep inside; the face recovers it in a deferred function.
 func TestWayOfGivingUp(t *testing.T) {
-	for layer, faces := range map[string][]string{"msg": {"Parse"}, "names": {"Match", "Words"}} {
+	for layer, faces := range map[string][]string{"msg": {"Parse"}, "names": {"Match", "Words"}, "users": {"Parse", "Print", "Table.Edit"}} {
 		r := reachOf(t, layer)
 		for _, face := range faces {
 			if !r.reaches(face, r.panics) || r.panics[face] {
@@ -321,5 +321,76 @@ func TestWayOfTheHand(t *testing.T) {
 	}
 	if arrays == 0 || lists == 0 {
 		t.Errorf("a cutter has %d arrays and %d lists", arrays, lists)
+	}
+}
+
+// Who belongs to whom stands in a map whose keys are structs of two names.
+func TestWayOfBonds(t *testing.T) {
+	_, files := source(t, "users")
+	pairs, keys := map[string]bool{}, map[string]bool{}
+	for _, f := range files {
+		ast.Inspect(f, func(n ast.Node) bool {
+			if x, ok := n.(*ast.TypeSpec); ok {
+				s, ok := x.Type.(*ast.StructType)
+				pairs[x.Name.Name] = ok && isTwoNames(s)
+				if ok && x.Name.Name == "Table" {
+					addKeys(s, keys)
+				}
+			}
+			return true
+		})
+	}
+	for key := range keys {
+		if pairs[key] {
+			return
+		}
+	}
+	t.Errorf("a table has no map whose keys are structs of two names: %v", keys)
+}
+
+// isTwoNames tells whether a struct is two texts.
+func isTwoNames(s *ast.StructType) bool {
+	names := 0
+	for _, f := range s.Fields.List {
+		id, ok := f.Type.(*ast.Ident)
+		if !ok || id.Name != "string" {
+			return false
+		}
+		names += len(f.Names)
+	}
+	return names == 2
+}
+
+// addKeys adds the types of the keys of a struct's maps.
+func addKeys(s *ast.StructType, keys map[string]bool) {
+	for _, f := range s.Fields.List {
+		if m, ok := f.Type.(*ast.MapType); ok {
+			if id, ok := m.Key.(*ast.Ident); ok {
+				keys[id.Name] = true
+			}
+		}
+	}
+}
+
+// Accounts are gone through by ranges over a function.
+func TestWayOfAccounts(t *testing.T) {
+	_, files := source(t, "users")
+	ranges := 0
+	for _, f := range files {
+		ast.Inspect(f, func(n ast.Node) bool {
+			r, ok := n.(*ast.RangeStmt)
+			if !ok {
+				return true
+			}
+			if c, ok := r.X.(*ast.CallExpr); ok {
+				if s, ok := c.Fun.(*ast.SelectorExpr); ok && s.Sel.Name == "Accounts" {
+					ranges++
+				}
+			}
+			return true
+		})
+	}
+	if ranges == 0 {
+		t.Error("no range over Accounts")
 	}
 }
