@@ -31,7 +31,7 @@ func library() map[string][]string {
 func standsOn() map[string][]string {
 	return map[string][]string{
 		"api": {}, "wire": {"api"}, "stat": {"api", "wire"}, "msg": {"api", "wire", "stat"}, "frame": {"api"},
-		"names": {"api", "wire"}, "users": {"api", "wire"},
+		"names": {"api", "wire"}, "users": {"api", "wire"}, "auth": {"api", "wire", "users"},
 	}
 }
 

@@ -4,6 +4,7 @@ import (
 	"errors"
 	"go/ast"
 	"go/types"
+	"strings"
 	"testing"
 )
 
@@ -393,4 +394,80 @@ func TestWayOfAccounts(t *testing.T) {
 	if ranges == 0 {
 		t.Error("no range over Accounts")
 	}
+}
+
+// function is a package's function of that name.
+func function(t *testing.T, layer, name string) *ast.FuncDecl {
+	t.Helper()
+	_, files := source(t, layer)
+	for _, f := range files {
+		for _, d := range f.Decls {
+			if x, ok := d.(*ast.FuncDecl); ok && nameOf(x) == name {
+				return x
+			}
+		}
+	}
+	t.Fatalf("%s: no function %s", layer, name)
+	return nil
+}
+
+// A sum goes over as many numbers as are handed in, one by one; and what is shown in an exchange is shown by sums.
+func TestWayOfSums(t *testing.T) {
+	sum := function(t, "auth", "Sum")
+	params := sum.Type.Params.List
+	last := params[len(params)-1]
+	if _, ok := last.Type.(*ast.Ellipsis); !ok || len(last.Names) != 1 || !rangesOver(sum.Body, last.Names[0].Name) {
+		t.Error("Sum: no range over the numbers handed in")
+	}
+	r := reachOf(t, "auth")
+	for _, face := range []string{"Ours", "Read", "Write", "Answer", "Confirms"} {
+		if !r.from(face)["Sum"] {
+			t.Errorf("%s: no Sum", face)
+		}
+	}
+}
+
+func rangesOver(n ast.Node, name string) bool {
+	found := false
+	ast.Inspect(n, func(n ast.Node) bool {
+		if x, ok := n.(*ast.RangeStmt); ok {
+			id, ok := x.X.(*ast.Ident)
+			found = found || ok && id.Name == name
+		}
+		return true
+	})
+	return found
+}
+
+// What is done at each step of a Talk stands in a switch over the steps, which are constants.
+func TestWayOfSteps(t *testing.T) {
+	for _, face := range []string{"Read", "Write"} {
+		steps := 0
+		ast.Inspect(function(t, "auth", face).Body, func(n ast.Node) bool {
+			x, ok := n.(*ast.SwitchStmt)
+			if !ok {
+				return true
+			}
+			if over, ok := x.Tag.(*ast.SelectorExpr); ok && over.Sel.Name == "Step" {
+				steps += casesOf(x, "Talk")
+			}
+			return true
+		})
+		if steps < 2 {
+			t.Errorf("%s: a switch over %d steps of a Talk", face, steps)
+		}
+	}
+}
+
+// casesOf is how many cases of a switch are names of package api that begin so.
+func casesOf(x *ast.SwitchStmt, begin string) int {
+	n := 0
+	for _, s := range x.Body.List {
+		for _, e := range s.(*ast.CaseClause).List {
+			if sel, ok := e.(*ast.SelectorExpr); ok && strings.HasPrefix(sel.Sel.Name, begin) {
+				n++
+			}
+		}
+	}
+	return n
 }
