@@ -471,3 +471,99 @@ func casesOf(x *ast.SwitchStmt, begin string) int {
 	}
 	return n
 }
+
+// fieldsOf are the fields of a package's struct type, by the texts of their types, and these types.
+func fieldsOf(t *testing.T, layer, name string) map[string]ast.Expr {
+	t.Helper()
+	fields := map[string]ast.Expr{}
+	if s, ok := typeOf(t, layer, name).(*ast.StructType); ok {
+		for _, f := range s.Fields.List {
+			fields[types.ExprString(f.Type)] = f.Type
+		}
+	}
+	return fields
+}
+
+// typeOf is what a package's type of that name is; nothing, if there is none.
+func typeOf(t *testing.T, layer, name string) ast.Expr {
+	t.Helper()
+	var is ast.Expr
+	_, files := source(t, layer)
+	for _, f := range files {
+		ast.Inspect(f, func(n ast.Node) bool {
+			if x, ok := n.(*ast.TypeSpec); ok && x.Name.Name == name {
+				is = x.Type
+			}
+			return true
+		})
+	}
+	return is
+}
+
+// A child is found in a map whose key is a struct: the directory's path and the name.
+func TestWayOfChildren(t *testing.T) {
+	for _, f := range fieldsOf(t, "nodes", "Store") {
+		m, ok := f.(*ast.MapType)
+		if !ok {
+			continue
+		}
+		key := fieldsOf(t, "nodes", types.ExprString(m.Key))
+		if len(key) == 2 && key["uint64"] != nil && key["string"] != nil {
+			return
+		}
+	}
+	t.Error("a store has no map whose keys are a path and a name")
+}
+
+// A file's bytes are kept in blocks, which are arrays as long as a block is.
+func TestWayOfBlocks(t *testing.T) {
+	for text, f := range fieldsOf(t, "nodes", "node") {
+		kept := ""
+		ast.Inspect(f, func(n ast.Node) bool {
+			if id, ok := n.(*ast.Ident); ok {
+				kept = id.Name
+			}
+			return true
+		})
+		if a, ok := typeOf(t, "nodes", kept).(*ast.ArrayType); ok && a.Len != nil && types.ExprString(a.Len) == "api.BlockSize" && text != kept {
+			return
+		}
+	}
+	t.Error("a node has no blocks")
+}
+
+// Each node has a mutex, and the store has one; each is let go of in a deferred call.
+func TestWayOfNodesLocks(t *testing.T) {
+	for _, name := range []string{"Store", "node"} {
+		if fieldsOf(t, "nodes", name)["sync.Mutex"] == nil {
+			t.Errorf("%s: no mutex", name)
+		}
+	}
+	_, files := source(t, "nodes")
+	freed, deferred := 0, 0
+	for _, f := range files {
+		ast.Inspect(f, func(n ast.Node) bool {
+			if d, ok := n.(*ast.DeferStmt); ok && frees(d.Call) {
+				deferred++
+			}
+			if c, ok := n.(*ast.CallExpr); ok && frees(c) {
+				freed++
+			}
+			return true
+		})
+	}
+	if freed == 0 || freed != deferred {
+		t.Errorf("of %d calls that let go of a lock %d are deferred", freed, deferred)
+	}
+	r := reachOf(t, "nodes")
+	for _, face := range []string{"Do", "Node", "Child", "After", "Read", "Next", "Count", "All", "Clone"} {
+		if !r.from("Store." + face)[".Lock"] {
+			t.Errorf("%s: no lock is taken", face)
+		}
+	}
+}
+
+func frees(c *ast.CallExpr) bool {
+	s, ok := c.Fun.(*ast.SelectorExpr)
+	return ok && s.Sel.Name == "Unlock"
+}
