@@ -33,6 +33,7 @@ func standsOn() map[string][]string {
 		"api": {}, "wire": {"api"}, "stat": {"api", "wire"}, "msg": {"api", "wire", "stat"}, "frame": {"api"},
 		"names": {"api", "wire"}, "users": {"api", "wire"}, "auth": {"api", "wire", "users"},
 		"nodes": {"api", "wire", "names"},
+		"rules": {"api", "stat", "names", "users", "nodes"},
 	}
 }
 

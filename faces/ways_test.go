@@ -4,6 +4,7 @@ import (
 	"errors"
 	"go/ast"
 	"go/types"
+	"slices"
 	"strings"
 	"testing"
 )
@@ -566,4 +567,77 @@ func TestWayOfNodesLocks(t *testing.T) {
 func frees(c *ast.CallExpr) bool {
 	s, ok := c.Fun.(*ast.SelectorExpr)
 	return ok && s.Sel.Name == "Unlock"
+}
+
+// What is refused of each field of a record, and how it is set, stands in a table of functions, in the record's order, made within a function.
+func TestWayOfRefusals(t *testing.T) {
+	want := []string{"Type", "Dev", "QidKind", "QidVers", "QidPath", "Mode", "Atime", "Mtime", "Length", "Name", "Uid", "Gid", "Muid"}
+	r := reachOf(t, "rules")
+	if !r.reaches("Wstat", r.acts) {
+		t.Error("Wstat: no functions in fields")
+	}
+	_, files := source(t, "rules")
+	for _, f := range files {
+		for _, d := range f.Decls {
+			x, ok := d.(*ast.FuncDecl)
+			if ok && r.from("Wstat")[nameOf(x)] && r.rows[nameOf(x)] == len(want) && slices.Equal(fieldsIn(x), want) {
+				return
+			}
+		}
+	}
+	t.Error("Wstat: no table of all fields, in their order")
+}
+
+// fieldsIn are the sets of one field each that a function names, by their names in package api, in their order.
+func fieldsIn(x *ast.FuncDecl) []string {
+	var fields []string
+	ast.Inspect(x, func(n ast.Node) bool {
+		if sel, ok := n.(*ast.SelectorExpr); ok {
+			if name, ok := strings.CutPrefix(sel.Sel.Name, "Field"); ok {
+				fields = append(fields, name)
+			}
+		}
+		return true
+	})
+	return fields
+}
+
+// The rights of the three classes are a list that is ranged over, whoever's rights are asked.
+func TestWayOfClasses(t *testing.T) {
+	r := reachOf(t, "rules")
+	list := ""
+	for name, rows := range r.rows {
+		if rows == 3 {
+			list = name
+		}
+	}
+	_, files := source(t, "rules")
+	ranged := map[string]bool{}
+	for _, f := range files {
+		for _, d := range f.Decls {
+			if x, ok := d.(*ast.FuncDecl); ok && rangesOverCall(x, list) {
+				ranged[nameOf(x)] = true
+			}
+		}
+	}
+	for _, face := range []string{"Rights", "Step", "Open", "Create", "Remove", "Closes", "Wstat"} {
+		if !r.from(face)[list] || !r.reaches(face, ranged) {
+			t.Errorf("%s: no range over a list of three classes", face)
+		}
+	}
+}
+
+// rangesOverCall tells whether what a call of that name gives is ranged over.
+func rangesOverCall(n ast.Node, name string) bool {
+	found := false
+	ast.Inspect(n, func(n ast.Node) bool {
+		if x, ok := n.(*ast.RangeStmt); ok {
+			if c, ok := x.X.(*ast.CallExpr); ok {
+				s, ok := c.Fun.(*ast.SelectorExpr)
+				found = found || ok && s.Sel.Name == name
+			}
+		}
+		return true
+	})
+	return found
 }
