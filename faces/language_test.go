@@ -34,6 +34,7 @@ func standsOn() map[string][]string {
 		"names": {"api", "wire"}, "users": {"api", "wire"}, "auth": {"api", "wire", "users"},
 		"nodes": {"api", "wire", "names"},
 		"rules": {"api", "stat", "names", "users", "nodes"},
+		"fids":  {"api"},
 	}
 }
 

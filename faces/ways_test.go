@@ -641,3 +641,28 @@ func rangesOverCall(n ast.Node, name string) bool {
 	})
 	return found
 }
+
+// Fids lie in a map, by their numbers; they are sorted ahead of being told, and told by a function that Clear and Clone range over, too.
+func TestWayOfFids(t *testing.T) {
+	if fieldsOf(t, "fids", "Table")["map[uint32]api.Fid"] == nil {
+		t.Error("a table has no map of fids by their numbers")
+	}
+	r := reachOf(t, "fids")
+	for _, face := range []string{"All", "Clear", "Clone"} {
+		if name := "Table." + face; !r.reachesSort(name) {
+			t.Errorf("%s: nothing is sorted", face)
+		} else if face != "All" && !rangesOverCall(function(t, "fids", name), "All") {
+			t.Errorf("%s: no range over All", face)
+		}
+	}
+}
+
+// reachesSort tells whether a function comes to one by which the library sorts.
+func (r reach) reachesSort(face string) bool {
+	for name := range r.from(face) {
+		if strings.HasPrefix(name, ".Sort") {
+			return true
+		}
+	}
+	return false
+}
