@@ -35,6 +35,7 @@ func standsOn() map[string][]string {
 		"nodes": {"api", "wire", "names"},
 		"rules": {"api", "stat", "names", "users", "nodes"},
 		"fids":  {"api"},
+		"seq":   {"api", "msg", "stat", "users", "auth", "nodes", "rules", "fids"},
 	}
 }
 

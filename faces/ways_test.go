@@ -3,6 +3,7 @@ package faces
 import (
 	"errors"
 	"go/ast"
+	"go/token"
 	"go/types"
 	"slices"
 	"strings"
@@ -202,9 +203,9 @@ func TestWayOfKinds(t *testing.T) {
 	}
 }
 
-// What cannot be read on (a line, a pattern) is given up by panic, deep inside; the face recovers it in a deferred function.
+// What cannot be read on (a line, a pattern), and what refuses a request, is given up by panic, deep inside; the face recovers it in a deferred function.
 func TestWayOfGivingUp(t *testing.T) {
-	for layer, faces := range map[string][]string{"msg": {"Parse"}, "names": {"Match", "Words"}, "users": {"Parse", "Print", "Table.Edit"}} {
+	for layer, faces := range map[string][]string{"msg": {"Parse"}, "names": {"Match", "Words"}, "users": {"Parse", "Print", "Table.Edit"}, "seq": {"World.Decide"}} {
 		r := reachOf(t, layer)
 		for _, face := range faces {
 			if !r.reaches(face, r.panics) || r.panics[face] {
@@ -665,4 +666,97 @@ func (r reach) reachesSort(face string) bool {
 		}
 	}
 	return false
+}
+
+// Sessions stand in a map by their connections' numbers.
+func TestWayOfSessions(t *testing.T) {
+	if fieldsOf(t, "seq", "World")["map[int]session"] == nil {
+		t.Error("a world has no map of sessions by their connections' numbers")
+	}
+}
+
+// What is decided of each kind of request stands in a table of functions, named by method expressions, made within a function.
+func TestWayOfRequests(t *testing.T) {
+	r := reachOf(t, "seq")
+	if !r.reaches("World.Decide", r.acts) {
+		t.Error("Decide: no functions in fields")
+	}
+	_, files := source(t, "seq")
+	for _, f := range files {
+		for _, d := range f.Decls {
+			x, ok := d.(*ast.FuncDecl)
+			if ok && r.from("World.Decide")[nameOf(x)] && r.rows[nameOf(x)] == 13 && kindsByMethods(x) == 13 {
+				return
+			}
+		}
+	}
+	t.Error("Decide: no table of all kinds of requests, with a method expression for each")
+}
+
+// kindsByMethods is how many rows of literals in a function begin with a kind of request, and then name a method expression.
+func kindsByMethods(x *ast.FuncDecl) int {
+	kinds := map[string]bool{}
+	ast.Inspect(x, func(n ast.Node) bool {
+		row, ok := n.(*ast.CompositeLit)
+		if !ok || len(row.Elts) < 2 {
+			return true
+		}
+		if kind, ok := row.Elts[0].(*ast.SelectorExpr); ok && strings.HasPrefix(kind.Sel.Name, "T") && isMethodExpression(row.Elts[1]) {
+			kinds[kind.Sel.Name] = true
+		}
+		return true
+	})
+	return len(kinds)
+}
+
+// isMethodExpression tells whether something is a method that is named by a type of pointers.
+func isMethodExpression(x ast.Expr) bool {
+	sel, ok := x.(*ast.SelectorExpr)
+	if !ok {
+		return false
+	}
+	of, ok := sel.X.(*ast.ParenExpr)
+	if !ok {
+		return false
+	}
+	_, ok = of.X.(*ast.StarExpr)
+	return ok
+}
+
+// Needs are found in a map whose keys are locks, and two of them are held against one another as structs.
+func TestWayOfNeeds(t *testing.T) {
+	if fieldsOf(t, "seq", "foot")["map[api.Lock]api.Need"] == nil {
+		t.Error("a foot has no map of needs by their locks")
+	}
+	_, files := source(t, "seq")
+	for _, f := range files {
+		for _, d := range f.Decls {
+			if x, ok := d.(*ast.FuncDecl); ok && comparesItsNeed(x) {
+				return
+			}
+		}
+	}
+	t.Error("no need is held against another one")
+}
+
+// comparesItsNeed tells whether a function holds a need that it is given, whole, against something.
+func comparesItsNeed(x *ast.FuncDecl) bool {
+	given, found := map[string]bool{}, false
+	for _, p := range x.Type.Params.List {
+		for _, name := range p.Names {
+			given[name.Name] = types.ExprString(p.Type) == "api.Need"
+		}
+	}
+	ast.Inspect(x.Body, func(n ast.Node) bool {
+		b, ok := n.(*ast.BinaryExpr)
+		if !ok || b.Op != token.EQL && b.Op != token.NEQ {
+			return true
+		}
+		for _, side := range []ast.Expr{b.X, b.Y} {
+			id, ok := side.(*ast.Ident)
+			found = found || ok && given[id.Name]
+		}
+		return true
+	})
+	return found
 }
