@@ -36,6 +36,7 @@ func standsOn() map[string][]string {
 		"rules": {"api", "stat", "names", "users", "nodes"},
 		"fids":  {"api"},
 		"seq":   {"api", "msg", "stat", "users", "auth", "nodes", "rules", "fids"},
+		"solo":  {"api", "msg", "frame", "seq"},
 	}
 }
 

@@ -760,3 +760,30 @@ func comparesItsNeed(x *ast.FuncDecl) bool {
 	})
 	return found
 }
+
+// Connections that have not ended stand in a map by their numbers; one that ends, by Close or by its bytes, is deleted from it.
+func TestWayOfConnections(t *testing.T) {
+	byNumber := false
+	for _, f := range fieldsOf(t, "solo", "Server") {
+		m, ok := f.(*ast.MapType)
+		byNumber = byNumber || ok && types.ExprString(m.Key) == "int"
+	}
+	if !byNumber {
+		t.Error("a server has no map by numbers")
+	}
+	deletes := map[string]bool{}
+	_, files := source(t, "solo")
+	for _, f := range files {
+		for _, d := range f.Decls {
+			if x, ok := d.(*ast.FuncDecl); ok {
+				deletes[nameOf(x)] = calls(x, "delete")
+			}
+		}
+	}
+	r := reachOf(t, "solo")
+	for _, face := range []string{"Server.Feed", "Server.Close"} {
+		if !r.reaches(face, deletes) {
+			t.Errorf("%s: nothing is deleted from a map", face)
+		}
+	}
+}
