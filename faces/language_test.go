@@ -37,6 +37,7 @@ func standsOn() map[string][]string {
 		"fids":  {"api"},
 		"seq":   {"api", "msg", "stat", "users", "auth", "nodes", "rules", "fids"},
 		"solo":  {"api", "msg", "frame", "seq"},
+		"locks": {"api"},
 	}
 }
 

@@ -771,19 +771,76 @@ func TestWayOfConnections(t *testing.T) {
 	if !byNumber {
 		t.Error("a server has no map by numbers")
 	}
-	deletes := map[string]bool{}
-	_, files := source(t, "solo")
-	for _, f := range files {
-		for _, d := range f.Decls {
-			if x, ok := d.(*ast.FuncDecl); ok {
-				deletes[nameOf(x)] = calls(x, "delete")
-			}
-		}
-	}
+	deletes := having(t, "solo", func(x *ast.FuncDecl) bool { return calls(x, "delete") })
 	r := reachOf(t, "solo")
 	for _, face := range []string{"Server.Feed", "Server.Close"} {
 		if !r.reaches(face, deletes) {
 			t.Errorf("%s: nothing is deleted from a map", face)
 		}
 	}
+}
+
+// having are the functions of a package that are such.
+func having(t *testing.T, layer string, such func(x *ast.FuncDecl) bool) map[string]bool {
+	t.Helper()
+	set := map[string]bool{}
+	_, files := source(t, layer)
+	for _, f := range files {
+		for _, d := range f.Decls {
+			if x, ok := d.(*ast.FuncDecl); ok {
+				set[nameOf(x)] = such(x)
+			}
+		}
+	}
+	return set
+}
+
+// Locks stand in a map whose keys are the locks themselves; those that nobody holds are deleted from it, and queues are cut by slices of three indices.
+func TestWayOfLocks(t *testing.T) {
+	field := ""
+	table, _ := typeOf(t, "locks", "Table").(*ast.StructType)
+	for _, f := range table.Fields.List {
+		if m, ok := f.Type.(*ast.MapType); ok && types.ExprString(m.Key) == "api.Lock" {
+			field = f.Names[0].Name
+		}
+	}
+	if field == "" {
+		t.Error("a table has no map by locks")
+	}
+	deletes := having(t, "locks", func(x *ast.FuncDecl) bool { return deletesFrom(x, field) })
+	cuts := having(t, "locks", cutsByThree)
+	r := reachOf(t, "locks")
+	for _, face := range []string{"Table.Free", "Table.Leave"} {
+		if !r.reaches(face, deletes) {
+			t.Errorf("%s: no lock is deleted from the map", face)
+		}
+		if !r.reaches(face, cuts) {
+			t.Errorf("%s: no queue is cut by three indices", face)
+		}
+	}
+}
+
+// deletesFrom tells whether a function deletes from a map that is a field of that name.
+func deletesFrom(x *ast.FuncDecl, field string) bool {
+	found := false
+	ast.Inspect(x, func(n ast.Node) bool {
+		c, ok := n.(*ast.CallExpr)
+		if !ok || len(c.Args) != 2 || !calls(c, "delete") {
+			return true
+		}
+		sel, ok := c.Args[0].(*ast.SelectorExpr)
+		found = found || ok && sel.Sel.Name == field
+		return true
+	})
+	return found
+}
+
+func cutsByThree(x *ast.FuncDecl) bool {
+	found := false
+	ast.Inspect(x, func(n ast.Node) bool {
+		s, ok := n.(*ast.SliceExpr)
+		found = found || ok && s.Slice3
+		return true
+	})
+	return found
 }
