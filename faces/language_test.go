@@ -38,6 +38,7 @@ func standsOn() map[string][]string {
 		"seq":   {"api", "msg", "stat", "users", "auth", "nodes", "rules", "fids"},
 		"solo":  {"api", "msg", "frame", "seq"},
 		"locks": {"api"},
+		"tags":  {"api"},
 	}
 }
 

@@ -844,3 +844,45 @@ func cutsByThree(x *ast.FuncDecl) bool {
 	})
 	return found
 }
+
+// Requests lie in a map by their ids, tags in another one; a request's state is one of the constants by iota; the row is a list whose first one is taken.
+func TestWayOfTags(t *testing.T) {
+	of, byTag, row := "", false, ""
+	table, _ := typeOf(t, "tags", "Table").(*ast.StructType)
+	for _, f := range table.Fields.List {
+		switch x := f.Type.(type) {
+		case *ast.MapType:
+			if types.ExprString(x.Key) == "int" {
+				of = types.ExprString(x.Value)
+			}
+			byTag = byTag || types.ExprString(x.Key) == "uint16"
+		case *ast.ArrayType:
+			row = f.Names[0].Name
+		}
+	}
+	if fieldsOf(t, "tags", of)["api.TagState"] == nil {
+		t.Errorf("a table has no map by ids, or what lies in it (%q) has no state", of)
+	}
+	if !byTag {
+		t.Error("a table has no map by tags")
+	}
+	takes := having(t, "tags", func(x *ast.FuncDecl) bool { return takesFirst(x, row) })
+	if row == "" || !reachOf(t, "tags").reaches("Table.Next", takes) {
+		t.Error("Next takes no list's first one")
+	}
+}
+
+// takesFirst tells whether a function cuts the first one off a list that is a field of that name, and keeps the others.
+func takesFirst(x *ast.FuncDecl, field string) bool {
+	found := false
+	ast.Inspect(x, func(n ast.Node) bool {
+		s, ok := n.(*ast.SliceExpr)
+		if !ok || s.Low == nil || types.ExprString(s.Low) != "1" {
+			return true
+		}
+		sel, ok := s.X.(*ast.SelectorExpr)
+		found = found || ok && sel.Sel.Name == field
+		return true
+	})
+	return found
+}
